@@ -1,0 +1,1 @@
+"""Doletaper: an office of help, told to each coin."""
