@@ -28,6 +28,13 @@ def plus(one, other):
     return fraction(one[0] * other[1] + other[0] * one[1], one[1] * other[1])
 
 
+def total_of(ones):
+    total = NOUGHT
+    for one in ones:
+        total = plus(total, one)
+    return total
+
+
 def minus(one, other):
     return fraction(one[0] * other[1] - other[0] * one[1], one[1] * other[1])
 

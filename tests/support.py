@@ -1,10 +1,16 @@
-"""What several test files ask: the form of fractions and bends, and what a bend comes to, reckoned apart."""
+"""What several test files ask: some persons, the form of fractions and bends, what a bend comes to, reckoned apart."""
 
 from fractions import Fraction
 from math import gcd
 
 BIG = 10 ** 299 + 7
 BIGGER = 9 * 10 ** 299 + 13
+
+ANN = ("ann", 40, 1000, 300)
+BOB = ("bob", 17, 70, 0)
+CYD = ("cyd", 18, 5, 25)
+DEE = ("dee", 0, 0, 0)
+OLD = ("old", 150, 10 ** 9, 10 ** 9)
 
 
 def is_whole(thing):

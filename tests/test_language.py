@@ -41,6 +41,10 @@ EXPRESSIONS = (
     ast.Attribute, ast.Subscript, ast.Slice, ast.ListComp, ast.JoinedStr, ast.FormattedValue, ast.Name, ast.Lambda,
 )
 PYTHON_NAMES = set(vars(builtins))
+PYTHON_MEMBERS = {
+    name for kind in (str, int, list, tuple, dict, set, frozenset, bytes) for name in dir(kind) if name[:2] != "__"
+}
+PLAIN_VALUES = set("count index title find get join lower upper split strip copy add".split())
 WALKED = {"zip", "enumerate", "reversed", "range"}
 WALKERS = {"list", "tuple", "dict", "sorted", "sum", "any", "all", "enumerate", "zip", "min", "max"}
 
@@ -64,6 +68,10 @@ def bound_names(tree):
             yield node.arg, node.lineno
         elif isinstance(node, ast.Name) and isinstance(node.ctx, ast.Store):
             yield node.id, node.lineno
+
+
+def classes_of(tree):
+    return {node.name for node in tree.body if isinstance(node, ast.ClassDef)}
 
 
 def methods_of(tree):
@@ -105,7 +113,7 @@ def top_faults(tree):
 
 def name_faults(tree):
     taken = {alias.name for node in tree.body if isinstance(node, ast.ImportFrom) for alias in node.names}
-    classes = {node.name for node in tree.body if isinstance(node, ast.ClassDef)}
+    classes = classes_of(tree)
     methods = methods_of(tree)
     for name, line in bound_names(tree):
         if name not in TWO_UNDERSCORES and not re.fullmatch(r"[A-Za-z][A-Za-z0-9_]*", name):
@@ -213,10 +221,46 @@ def method_faults(tree, own_methods):
             yield "L17", node.lineno
 
 
-def faults(source, own_methods=()):
+def values_of(tree):
+    return {node.attr for node in ast.walk(tree) if isinstance(node, ast.Attribute) and isinstance(node.ctx, ast.Store)}
+
+
+def member_faults(tree):
+    """L18 and L26: what methods and values of objects are called."""
+    for name in methods_of(tree) - TWO_UNDERSCORES:
+        if name in PYTHON_MEMBERS and name not in OWN_METHODS | {"add", "discard"}:
+            yield "L26", name
+    for name in values_of(tree):
+        if name == "args" or name in PYTHON_MEMBERS - PLAIN_VALUES:
+            yield "L26", name
+    for name in methods_of(tree) & values_of(tree):
+        yield "L18", name
+
+
+def class_use_faults(tree, classes):
+    """L18: a class is called, is a base, or stands by isinstance, except or raise."""
+    allowed = set()
+    for node in ast.walk(tree):
+        if isinstance(node, ast.Call):
+            allowed.add(node.func)
+            if isinstance(node.func, ast.Name) and node.func.id == "isinstance":
+                allowed.update(ast.walk(node.args[1]))
+        elif isinstance(node, ast.ClassDef):
+            allowed.update(node.bases)
+        elif isinstance(node, ast.ExceptHandler):
+            allowed.add(node.type)
+        elif isinstance(node, ast.Attribute) and node.attr == "__init__":
+            allowed.add(node.value)
+    for node in ast.walk(tree):
+        if isinstance(node, ast.Name) and node.id in classes and node not in allowed:
+            yield "L18", node.lineno
+
+
+def faults(source, own_methods=(), classes=()):
     tree = ast.parse(source)
     found = list(sign_faults(source)) + list(top_faults(tree)) + list(name_faults(tree)) + list(walk_faults(tree))
-    found += list(method_faults(tree, own_methods))
+    found += list(method_faults(tree, own_methods)) + list(member_faults(tree))
+    found += list(class_use_faults(tree, classes_of(tree) | set(classes)))
     for node in ast.walk(tree):
         if isinstance(node, (ast.FunctionDef, ast.Lambda)):
             found += list(def_faults(node))
@@ -251,8 +295,11 @@ class Package(unittest.TestCase):
     def test_each_file_keeps_the_rules(self):
         trees = {path: ast.parse(path.read_text(encoding="utf-8")) for path in package_files()}
         own_methods = {name for tree in trees.values() for name in methods_of(tree)}
+        own_values = {name for tree in trees.values() for name in values_of(tree)}
+        classes = {name for tree in trees.values() for name in classes_of(tree)}
+        self.assertEqual(own_methods & own_values, set())
         for path in trees:
-            self.assertEqual(faults(path.read_text(encoding="utf-8"), own_methods), [], path.name)
+            self.assertEqual(faults(path.read_text(encoding="utf-8"), own_methods, classes), [], path.name)
 
     def test_imports(self):
         bound = {}
@@ -284,9 +331,13 @@ class Checker(unittest.TestCase):
             ("L7", "def f(a):\n    return any(b for b in a)"), ("L7", "def f(a):\n    return f'{a[0]}'"),
             ("L8", "def f(a):\n    return round(a)"), ("L10", "x = 1  # " + "x" * 120), ("L12", "def _f():\n    pass"),
             ("L14", "# \u00e9"), ("L15", "def f(sum):\n    pass"), ("L15", "x = 1\nx = 2"), ("L17", "# the type"),
+            ("L18", "class A:\n    def b(self):\n        self.b = 1"), ("L18", "class A:\n    pass\nx = [A]"),
+            ("L18", "class A:\n    pass\ndef f():\n    return A"),
             ("L19", "def f():\n    raise ValueError"), ("L20", "def f(a, b):\n    return a is b"),
             ("L21", "def f(a: int):\n    pass"), ("L23", "def f(a):\n    b = zip(a, a)"),
-            ("L24", "def f(a):\n    return set(a)"), ("L25", "def f(a):\n    a.sort()"), ("L27", "x = 'a%'"),
+            ("L24", "def f(a):\n    return set(a)"), ("L25", "def f(a):\n    a.sort()"),
+            ("L26", "class A:\n    def sort(self):\n        pass"), ("L26", "def f(a):\n    a.keys = 1"),
+            ("L26", "def f(a):\n    a.args = 1"), ("L27", "x = 'a%'"),
             ("L27", "def f(a):\n    return 2 ** a"), ("L28", "class A:\n    def __init__(self):\n        return None"),
         ]:
             with self.subTest(rule=rule, source=source):
