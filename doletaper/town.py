@@ -1,6 +1,7 @@
 """Towns: persons, and who of them live in one home."""
 
 from doletaper.errors import Twice, Unknown
+from doletaper.steps import steps_from
 
 
 def persons_by_name(people):
@@ -29,19 +30,6 @@ def neighbours_by_name(persons, pairs):
     return neighbours
 
 
-def steps_back_to(neighbours, goal):
-    # Each name is stepped on to once, from a name that was there ahead of it: so going back comes to no name twice.
-    steps = {goal: None}
-    waiting = [goal]
-    while waiting:
-        name = waiting.pop()
-        for neighbour in neighbours[name]:
-            if neighbour not in steps:
-                steps[neighbour] = name
-                waiting.append(neighbour)
-    return steps
-
-
 class Town:
     def __init__(self, people, pairs):
         self.persons = persons_by_name(people)
@@ -63,12 +51,13 @@ class Town:
 
     def home(self, name):
         check_known(self.persons, name)
-        return [self.persons[mate] for mate in sorted(steps_back_to(self.neighbours, name))]
+        return [self.persons[mate] for mate in sorted(steps_from(self.neighbours, [name]))]
 
     def chain(self, one, other):
         check_known(self.persons, one)
         check_known(self.persons, other)
-        steps = steps_back_to(self.neighbours, other)
+        # Gone from the end, so that the steps go back from the beginning to it.
+        steps = steps_from(self.neighbours, [other])
         if one not in steps:
             return None
         links = [one]

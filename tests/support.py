@@ -1,7 +1,9 @@
-"""What several test files ask: some persons, the form of fractions and bends, what a bend comes to, reckoned apart."""
+"""What several test files ask: some persons, kinds and rows, the form of fractions and bends, what bends come to."""
 
 from fractions import Fraction
 from math import gcd
+
+from doletaper.kinds import Kind, Office
 
 BIG = 10 ** 299 + 7
 BIGGER = 9 * 10 ** 299 + 13
@@ -11,6 +13,13 @@ BOB = ("bob", 17, 70, 0)
 CYD = ("cyd", 18, 5, 25)
 DEE = ("dee", 0, 0, 0)
 OLD = ("old", 150, 10 ** 9, 10 ** 9)
+HOME = [ANN, BOB, CYD]
+HOMES = [[], [ANN], [BOB, DEE], HOME, HOME + [DEE, OLD]]
+
+NOUGHT = (0, 1)
+ONE = (1, 1)
+HALF = (1, 2)
+EVERYWHERE_NOUGHT = [(NOUGHT, NOUGHT, NOUGHT)]
 
 
 def is_whole(thing):
@@ -96,3 +105,96 @@ def probes(bends):
     between = [(one + other) / 2 for one, other in zip(starts, starts[1:])]
     beyond = [starts[-1] + Fraction(1, 3), starts[-1] + 1, starts[-1] + 1000]
     return sorted(starts + between + beyond)
+
+
+def bare(**changed):
+    """A kind without anything but what is told."""
+    given = {"title": "food", "parts": [], "terms": [], "pays": [], "counts": [], "offs": []}
+    given.update(changed)
+    return Kind(**given)
+
+
+TITLES = ["food", "rent", "abc", "kind", "cap", "zeds", "a", "eightlet"]
+
+
+def shown(number):
+    number = Fraction(number)
+    return str(number.numerator) if number.denominator == 1 else f"{number.numerator}/{number.denominator}"
+
+
+def random_rate(chance):
+    return shown(Fraction(chance.randint(0, 6), chance.randint(1, 5)))
+
+
+def random_ages(chance):
+    return "{} {}".format(*sorted([chance.choice([0, 17, 18, 40, 150]), chance.randint(0, 150)]))
+
+
+def random_kind_rows(chance, titles):
+    """The rows under a kind's row, sort by sort as an office is told."""
+    rows = []
+    for turn in range(chance.randint(0, 6)):
+        rows.append(chance.choice([
+            f"base {chance.randint(0, 900)}", f"each {chance.randint(0, 90)} {random_ages(chance)}",
+            f"rent {random_rate(chance)} {chance.randint(0, 900)}",
+        ]))
+    for turn in range(chance.choice([0, 0, 0, 1, 2, 6])):
+        rows.append(f"{chance.choice(['from', 'upto'])} {chance.randint(0, 3)} {random_ages(chance)}")
+    for turn in range(chance.randint(0, 4)):
+        rows.append(f"pay {random_rate(chance)} {random_ages(chance)}")
+    for other in chance.sample(titles, min(len(titles), chance.choice([0, 0, 1, 1, 2, 8]))):
+        rows.append(f"counts {other} {random_rate(chance)}")
+    for limit in sorted(chance.sample(range(0, 1500), chance.randint(0, 6))):
+        rows.append(f"off {limit} {random_rate(chance)}")
+    if chance.random() < 0.3:
+        rows.append(f"until {chance.randint(0, 1500)}")
+    if chance.random() < 0.3:
+        rows.append(f"round {chance.randint(1, 60)} {chance.choice(['down', 'up', 'near'])}")
+    return rows
+
+
+def random_rows(chance):
+    """Rows of an office as it is told."""
+    titles = chance.sample(TITLES, chance.randint(0, 8))
+    rows = []
+    for title in titles:
+        rows.append(f"kind {title}")
+        rows.extend(random_kind_rows(chance, titles))
+    left = chance.sample(titles, len(titles))
+    for turn in range(chance.randint(0, 4)):
+        many = chance.randint(1, 3)
+        if len(left) >= many:
+            rows.append(" ".join(["cap", str(chance.randint(0, 999)), str(chance.randint(0, 99))] + left[:many]))
+            left = left[many:]
+    return rows
+
+
+def random_home(chance):
+    home = [("ann", chance.randint(0, 150), chance.randint(0, 900), chance.randint(0, 400)),
+            ("bob", chance.choice([0, 17, 18, 40]), chance.randint(0, 900), chance.randint(0, 400)), CYD, DEE]
+    return [who for who in home if chance.random() < 0.6]
+
+
+def office_of(counts, **changed):
+    """An office of kinds that count each other at the rate 1, told as {title: titles}; changed: fields by title."""
+    return Office([bare(title=title, counts=[(other, ONE) for other in others], **changed.get(title, {}))
+                   for title, others in counts.items()], [])
+
+
+def random_counts(chance):
+    """For each title of an office, in its order, the titles that it counts."""
+    titles = chance.sample(TITLES, chance.randint(1, 8))
+    likely = chance.choice([0.1, 0.15, 0.2, 0.3])
+    counts = {}
+    for title in titles:
+        counted = [other for other in titles if chance.random() < likely]
+        counts[title] = chance.sample(counted, len(counted))
+    return counts
+
+
+def reached(counts):
+    """For each title all that one comes to by going once or more, reckoned apart: step by step till nothing is new."""
+    found = {title: set(others) for title, others in counts.items()}
+    for turn in counts:
+        found = {title: others.union(*[found[other] for other in others]) for title, others in found.items()}
+    return found

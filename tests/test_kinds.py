@@ -7,21 +7,10 @@ from doletaper.bends import bands, bend_at
 from doletaper.errors import HelpError, NoBend, Unknown
 from doletaper.kinds import Cap, Kind, Office
 from doletaper.parts import Base, Each, From, Part, Rent, Term, Upto
-from support import ANN, BOB, CYD, DEE, OLD, bend_fault, is_fraction, number_of, pair_of, value_at
-
-HOME = [ANN, BOB, CYD]
-HOMES = [[], [ANN], [BOB, DEE], HOME, HOME + [DEE, OLD]]
-NOUGHT = (0, 1)
-ONE = (1, 1)
-HALF = (1, 2)
-EVERYWHERE_NOUGHT = [(NOUGHT, NOUGHT, NOUGHT)]
-
-
-def bare(**changed):
-    """A kind without anything but what is told."""
-    given = {"title": "food", "parts": [], "terms": [], "pays": [], "counts": [], "offs": []}
-    given.update(changed)
-    return Kind(**given)
+from support import (
+    BOB, DEE, EVERYWHERE_NOUGHT, HALF, HOME, HOMES, NOUGHT, OLD, ONE, bare, bend_fault, is_fraction, number_of, pair_of,
+    value_at,
+)
 
 
 def handed_lists():

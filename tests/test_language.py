@@ -203,11 +203,15 @@ def walk_faults(tree):
             allowed.add(node.iter)
         elif isinstance(node, ast.Call) and isinstance(node.func, ast.Name) and node.func.id in WALKERS:
             allowed.update(node.args if node.func.id == "zip" else node.args[:1])
+    measured = set()
+    for node in ast.walk(tree):
+        if isinstance(node, ast.Call) and isinstance(node.func, ast.Name) and node.func.id in ("len", "sorted"):
+            measured.update(node.args if not node.keywords else [])
     for node in ast.walk(tree):
         if isinstance(node, ast.Call) and isinstance(node.func, ast.Name):
             if node.func.id in WALKED and node not in allowed:
                 yield "L23", node.lineno
-            if node.func.id in ("set", "frozenset"):
+            if node.func.id in ("set", "frozenset") and node not in measured:
                 yield "L24", node.lineno
 
 
@@ -335,7 +339,8 @@ class Checker(unittest.TestCase):
             ("L18", "class A:\n    pass\ndef f():\n    return A"),
             ("L19", "def f():\n    raise ValueError"), ("L20", "def f(a, b):\n    return a is b"),
             ("L21", "def f(a: int):\n    pass"), ("L23", "def f(a):\n    b = zip(a, a)"),
-            ("L24", "def f(a):\n    return set(a)"), ("L25", "def f(a):\n    a.sort()"),
+            ("L24", "def f(a):\n    return set(a)"), ("L24", "def f(a):\n    return sorted(set(a), key=len)"),
+            ("L25", "def f(a):\n    a.sort()"),
             ("L26", "class A:\n    def sort(self):\n        pass"), ("L26", "def f(a):\n    a.keys = 1"),
             ("L26", "def f(a):\n    a.args = 1"), ("L27", "x = 'a%'"),
             ("L27", "def f(a):\n    return 2 ** a"), ("L28", "class A:\n    def __init__(self):\n        return None"),
